@@ -1,0 +1,34 @@
+import ast
+import unittest
+
+from tests import language
+
+
+class Language(unittest.TestCase):
+    def test_the_package_keeps_to_its_language(self):
+        self.assertEqual(language.faults(), [])
+
+    def test_the_checks_find_faults(self):
+        def nodes(text):
+            return list(language.in_nodes("m", ast.parse(text), set()))
+
+        def names(text):
+            return list(language.in_names("m", ast.parse(text)))
+
+        def operators(text):
+            return list(language.in_operators({"m": ast.parse(text)}))
+
+        for text in ("x = 1 / 2", "x = 1.5", "x = any(y for y in z)", "x = eval(y)", "x.encode()", "x = a is b",
+                     "x = zip(a, b)", "x = '50%'", "x = 2 ** n", "x += y"):
+            self.assertTrue(nodes(text), text)
+        for text in ("min = 3", "def f(hash): pass", "def f(): self.__x = 1", "from m import a\na = 1", "_wall = 1",
+                     "def f():\n" + "    pass\n" * 40):
+            self.assertTrue(names(text), text)
+        for line in ("self.n = 1", "x.append(1)", "x[0] = 1", "x()", "y = x\n  y.append(1)", "y = [z(x)]\n  y[0] = 1"):
+            text = f"class C:\n def __add__(self, x):\n  {line}\ndef z(x):\n x.pop()\n"
+            self.assertTrue(operators(text), text)
+        self.assertEqual(operators("class C:\n def __add__(self, x):\n  y = []\n  y.append(x)\n"), [])
+        loop = "for x in enumerate(xs):\n xs.append(x)"
+        self.assertTrue(list(language.in_loops("m", ast.parse(loop))))
+        nested = "def f(xs):\n for x in xs:\n  pass\n return [[x for x in y] for y in xs]"
+        self.assertTrue(list(language.in_comprehensions("m", ast.parse(nested))))
