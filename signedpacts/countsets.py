@@ -1,7 +1,7 @@
 """Count sets: a row plus all combinations of rows, in their unique form ([13] to [16])."""
 from signedpacts.claims import exact_claims, keeps
 from signedpacts.errors import BadWidth
-from signedpacts.rows import combine
+from signedpacts.rows import combine, difference
 from signedpacts.stairs import remainder, steps_of
 
 
@@ -10,11 +10,6 @@ def check_widths(rows, width):
     for row in rows:
         if len(row) != width:
             raise BadWidth(len(row))
-
-
-def difference(row, other):
-    """The row minus the other one."""
-    return combine([row, other], [1, -1], width=len(row))
 
 
 class CountSet:

@@ -53,7 +53,7 @@ def concatenated(left, left_good, right, right_good, width):
     left_moves = moves_by_letter(left, left_gates, width)
     right_moves = moves_by_letter(right, right_gates, width)
     moves = [[*mine, *its] for mine, its in zip(left_moves, right_moves)]
-    lower = [0] * shift
+    lower = [0 for _ in left]
     for state, mask in enumerate(lower_states(right, right_good)):
         # Beside a state that accepts all texts, the states of the left add nothing, either.
         rest = start - 1 if is_whole(right, right_good, state) else 0

@@ -3,10 +3,21 @@
 
 def combine(rows, factors, *, width):
     """The combination of the rows with the factors: in each column the sum of factor times entry."""
-    total = [0] * width
+    total = [0 for _ in range(width)]
     for row, factor in zip(rows, factors):
-        total = [entry + factor * more for entry, more in zip(total, row)]
+        if factor != 0:
+            total = [entry + factor * more for entry, more in zip(total, row)]
     return tuple(total)
+
+
+def added(rows):
+    """The sum of rows of one width, of which there is at least one."""
+    return tuple([sum(column) for column in zip(*rows)])
+
+
+def difference(row, other):
+    """The row minus the other one."""
+    return tuple([entry - less for entry, less in zip(row, other)])
 
 
 def pivot_column(row):

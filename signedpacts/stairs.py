@@ -21,6 +21,18 @@ def reduced(row, steps):
     return row
 
 
+def is_combination(row, steps):
+    """True if the row is a combination of the steps of a staircase."""
+    rest = row
+    for step in steps:
+        column = pivot_column(step)
+        factor = rest[column] // step[column]
+        if factor * step[column] != rest[column]:
+            return False
+        rest = without_multiple(rest, factor, step)
+    return not any(rest)
+
+
 def crossed(step, row, column):
     """Two rows with the same combinations as step and row; the second one has a 0 in the column."""
     divisor, mine, its = bezout(step[column], row[column])

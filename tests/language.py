@@ -12,7 +12,8 @@ PACKAGE = pathlib.Path(__file__).resolve().parent.parent / "signedpacts"
 
 LIBRARY = {
     "heapq": "heappush heappop heapify heapreplace heappushpop", "math": "gcd lcm isqrt comb perm factorial",
-    "itertools": "product combinations permutations chain accumulate pairwise islice zip_longest",
+    # product, combinations and permutations do not stand beside a class that is iterated over and has a length.
+    "itertools": "chain accumulate pairwise islice zip_longest",
     "collections": "defaultdict",
 }
 BUILTINS = set(
@@ -138,8 +139,13 @@ def in_nodes(module, tree, methods):
                 yield f"{where} L20 is"
         if called(node) in VIEWS and called(node) not in methods and not iterated_at_once(node, parents[node]):
             yield f"{where} L23 {called(node)}"
-        if isinstance(node, ast.Pow) or isinstance(node, ast.AugAssign) and not isinstance(node.value, ast.Constant):
-            yield f"{where} L27, L5 power or growing assignment"
+        if isinstance(node, ast.BinOp) and isinstance(node.op, ast.Pow):
+            if not (isinstance(node.right, ast.Constant) and node.right.value in range(65)):
+                yield f"{where} L27 power"
+        if isinstance(node, ast.AugAssign) and (isinstance(node.op, ast.Pow) or not isinstance(node.value, ast.Constant)):
+            yield f"{where} L5 growing assignment"
+        if called(node) == "reversed" and called(node.args[0]) not in ("list", "tuple", "sorted", "range"):
+            yield f"{where} L5 reversed"
 
 
 def iterated_at_once(node, parent):
@@ -202,6 +208,36 @@ def in_classes(all_trees):
                 yield f"{module}:{node.lineno} L18 attribute {node.attr}"
 
 
+def in_properties(all_trees):
+    """L5: a property, a class value, a static or class method shares its name with nothing else in a class."""
+    plain, special = [], []
+    for tree in all_trees.values():
+        for kind in classes(tree):
+            for node in kind.body:
+                if isinstance(node, ast.FunctionDef):
+                    (special if node.decorator_list else plain).append(node.name)
+                elif isinstance(node, ast.Assign):
+                    plain.append(node.targets[0].id)
+            plain += [node.attr for node in ast.walk(kind)
+                      if isinstance(node, ast.Attribute) and isinstance(node.ctx, ast.Store)]
+    for name in special:
+        if name in plain or name in METHODS or special.count(name) > 1:
+            yield f"L5 property {name}"
+
+
+def in_sequences(all_trees):
+    """L5: what a class that is iterated over or indexed has."""
+    for module, tree in all_trees.items():
+        for kind in classes(tree):
+            own = {node.name: node for node in kind.body if isinstance(node, ast.FunctionDef)}
+            if "__getitem__" in own and "__iter__" not in own:
+                yield f"{module} L5 {kind.name} has no __iter__"
+            if "__iter__" in own and not re.fullmatch(r"return iter\(self\.\w+\)", ast.unparse(own["__iter__"].body[-1])):
+                yield f"{module} L5 {kind.name}.__iter__"
+            if "__len__" in own and not re.fullmatch(r"return len\(self\.\w+\)", ast.unparse(own["__len__"].body[-1])):
+                yield f"{module} L28 {kind.name}.__len__"
+
+
 def in_comprehensions(module, tree):
     """L7: the variable of a comprehension in another one is no name that its function assigns."""
     kinds = (ast.ListComp, ast.SetComp, ast.DictComp)
@@ -260,10 +296,12 @@ def directly(node, name):
 
 
 def is_fresh(value):
-    """True if the value of an assignment is surely a new list, dict or set."""
+    """True if the value of an assignment is surely a new list, dict or set.
+
+    `[0] * n` is not: in a package whose classes have a `__mul__`, it may be anything unless n is plainly a number.
+    """
     if isinstance(value, ast.BinOp):
-        repeats = isinstance(value.op, ast.Mult) and isinstance(value.left, ast.List)
-        return repeats or isinstance(value.op, ast.Add) and is_fresh(value.left) and is_fresh(value.right)
+        return isinstance(value.op, ast.Add) and is_fresh(value.left) and is_fresh(value.right)
     new = (ast.List, ast.Dict, ast.Set, ast.ListComp, ast.DictComp, ast.SetComp)
     return isinstance(value, new) or called(value) in ("list", "dict", "set", "sorted") or (
         isinstance(value, ast.Subscript) and isinstance(value.slice, ast.Slice))
@@ -321,7 +359,8 @@ def faults():
     """All places of the package that break a rule."""
     all_trees = trees()
     methods = {function.name for tree in all_trees.values() for kind in classes(tree) for function in functions(kind)}
-    found = [*in_files(), *in_imports(all_trees), *in_classes(all_trees), *in_operators(all_trees)]
+    found = [*in_files(), *in_imports(all_trees), *in_classes(all_trees), *in_operators(all_trees),
+             *in_properties(all_trees), *in_sequences(all_trees)]
     for module, tree in all_trees.items():
         found += [*in_nodes(module, tree, methods), *in_names(module, tree), *in_loops(module, tree),
                   *in_comprehensions(module, tree)]

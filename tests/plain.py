@@ -50,7 +50,7 @@ def is_staircase(steps, width):
     """True if the rows are a staircase as [11] says."""
     pivots = []
     for step in steps:
-        columns = [column for column in range(width) if step[column] != 0]
+        columns = [column for column, entry in enumerate(step) if entry != 0]
         if len(step) != width or not columns or step[columns[0]] < 0:
             return False
         pivots.append(columns[0])

@@ -2,11 +2,17 @@
 import copy
 import unittest
 
+from signedpacts.certificates import accepts, certificate
 from signedpacts.claims import keeps
 from signedpacts.countsets import CountSet
-from signedpacts.errors import BadRow, BadRule, BadWidth
+from signedpacts.derivations import Derivation
+from signedpacts.errors import BadNeed, BadPart, BadRow, BadRule, BadStep, BadWidth
 from signedpacts.grammars import Grammar
+from signedpacts.least import breaking, least_set, telling
+from signedpacts.living import base_derivation, live_names
 from signedpacts.machines import Machine
+from signedpacts.needs import Need
+from signedpacts.pacts import Choice, Event, Pact, Times
 from signedpacts.rows import combine
 from signedpacts.stairs import remainder, staircase
 
@@ -35,6 +41,35 @@ def grammar_fields(width, names, rules):
     return grammar.names, grammar.rules, grammar.rules_of(names[0])
 
 
+def derivation_fields(width, names, rules, steps):
+    derivation = Derivation(Grammar(width, names, rules), steps)
+    return derivation.steps, derivation.root, derivation.total, derivation.size, derivation.height
+
+
+def leftmost_fields(rules, numbers):
+    return Derivation.from_rules(Grammar(1, ["S"], rules), "S", numbers).steps
+
+
+def least_fields(rules, claim):
+    grammar = Grammar(2, ["S", "T"], rules)
+    broken = breaking(grammar, "S", claim)
+    return (set_fields(least_set(grammar, "S")), tuple(one.steps for one in telling(grammar, "S")), live_names(grammar),
+            base_derivation(grammar, "S").steps, broken.steps, certificate(grammar))
+
+
+def need_fields(start, rises, never):
+    need = Need(start, rises, never)
+    return tuple((one.start, one.rises, one.never) for one in (need, need >> need, need * 3, need.mine(), need.theirs()))
+
+
+def choice_fields(owner, options):
+    return Choice(owner, options).text, Choice(owner, options).options[0].parts
+
+
+RULES = [["S", [1, 2], ["S"]], ["S", [0, 0], ["T"]], ["T", [3, 0], ["T"]], ["T", [0, 0], []]]
+DAY, MONTH = Event("D"), Event("M")
+PAPER = certificate(Grammar(2, ["S", "T"], RULES))
+
 CALLS = [
     (machine_fields, ["ab", [[1, 2], [None, 1], [2, 0]], [2, 1]]),
     (lambda rows, factors: combine(rows, factors, width=2), [[[1, 2], [3, 4]], [5, -6]]),
@@ -47,6 +82,11 @@ CALLS = [
     (lambda row: row in CountSet(2, start=[1, 1], steps=[[2, 0]]), [[5, 1]]),
     (lambda claim: CountSet(2, start=[1, 1], steps=[[2, 0]]).holds(claim), [[[1, 1], 0, 2]]),
     (grammar_fields, [2, ["S", "T"], [["S", [1, 2], ["S", "T"]], ["T", [0, 0], []], ["S", [3, 4], []]]]),
+    (derivation_fields, [1, ["S"], [["S", [1], ["S", "S"]], ["S", [2], []]], [[1, []], [0, [0, 0]], [0, [1, 0]]]]),
+    (leftmost_fields, [[["S", [1], ["S", "S"]], ["S", [2], []]], [0, 1, 1]]),
+    (least_fields, [RULES, [[1, 0], 0, 0]]),
+    (lambda paper: accepts(Grammar(2, ["S", "T"], RULES), paper), [PAPER]),
+    (need_fields, [2, [[0, 3], [5, 6]], 9]),
 ]
 
 
@@ -75,12 +115,19 @@ class GeneralRules(unittest.TestCase):
     def test_arguments_are_not_changed_by_errors(self):
         rows, steps, rules = [[0, 1], [5]], [[1, 2], [3]], [["S", [1, 2], ["U"]]]
         before = copy.deepcopy([rows, steps, rules])
+        grammar = Grammar(1, ["S"], [("S", (1,), []), ("S", (1,), ["S"])])
+        parts, options, bad_steps, numbers, rises = [DAY, None], [Pact([DAY]), DAY], [[0, []], [1, [1]]], [1, 1], [[2, 1]]
+        more = [list(given) for given in (parts, options, bad_steps, numbers, rises)]
         for error, call in ((BadRow, lambda: Machine("ab", rows, [0])), (BadRule, lambda: Grammar(2, ["S"], rules)),
                             (BadWidth, lambda: CountSet(2, start=[0, 0], steps=steps)),
-                            (BadWidth, lambda: CountSet.around(2, steps))):
+                            (BadWidth, lambda: CountSet.around(2, steps)), (BadPart, lambda: Pact(parts)),
+                            (BadPart, lambda: Choice("a", options)), (BadStep, lambda: Derivation(grammar, bad_steps)),
+                            (BadStep, lambda: Derivation.from_rules(grammar, "S", numbers)),
+                            (BadNeed, lambda: Need(0, rises, None))):
             for _ in range(2):
                 self.assertRaises(error, call)
         self.assertEqual([rows, steps, rules], before)
+        self.assertEqual([parts, options, bad_steps, numbers, rises], more)
 
     def test_later_changes_of_a_machines_arguments(self):
         rows, good = [[1, 0], [None, 1]], [1]
@@ -130,6 +177,20 @@ class GeneralRules(unittest.TestCase):
             self.assertEqual(results, [one + other, one | other, one * 3, one.rounds(), one.within(other),
                                        one.claims()])
             self.assertEqual([set_fields(one), set_fields(other)], before)
+
+    def test_lists_and_tuples_of_parts_are_alike(self):
+        one, other = Pact([DAY, MONTH]), Pact((DAY, MONTH))
+        self.assertEqual((one.parts, one.text, one[:1]), (other.parts, other.text, (DAY,)))
+        self.assertEqual(choice_fields("a", [one, other]), choice_fields("a", (other, one)))
+        self.assertEqual(choice_fields("a", [one, other])[1], (DAY, MONTH))
+
+    def test_operators_of_pacts_change_nothing(self):
+        one, other = Pact([DAY]), Pact([MONTH])
+        before = [(pact.parts, pact.weight, pact.depth, pact.text) for pact in (one, other)]
+        for _ in range(2):
+            self.assertEqual([(one + other).text, (one * 3).text, Times(3, one).text], ["D, M", "3(D)", "3(D)"])
+            self.assertRaises(BadPart, lambda: one + [MONTH])
+        self.assertEqual([(pact.parts, pact.weight, pact.depth, pact.text) for pact in (one, other)], before)
 
     def test_two_generators_at_once(self):
         machine = Machine("ab", [[0, 0]])

@@ -7,6 +7,9 @@ FUNCTIONS = {
     "rows": {"combine": "(rows, factors, *, width)"},
     "claims": {"keeps": "(row, claim)"},
     "stairs": {"staircase": "(rows, *, width)", "remainder": "(row, steps)"},
+    "living": {"live_names": "(grammar)", "base_derivation": "(grammar, name)"},
+    "least": {"least_set": "(grammar, name)", "telling": "(grammar, name)", "breaking": "(grammar, name, claim)"},
+    "certificates": {"certificate": "(grammar)", "accepts": "(grammar, paper)"},
 }
 CLASSES = {
     "machines": {"Machine": {
@@ -21,6 +24,20 @@ CLASSES = {
         "__or__": "(self, other)", "__mul__": "(self, other)", "__contains__": "(self, row)",
         "__eq__": "(self, other)"}},
     "grammars": {"Grammar": {"__init__": "(self, width, names, rules)", "rules_of": "(self, name)"}},
+    "derivations": {"Derivation": {"__init__": "(self, grammar, steps)", "leftmost": "(self)"}},
+    "needs": {"Need": {
+        "__init__": "(self, start, rises, never)", "__call__": "(self, k)", "__rshift__": "(self, other)",
+        "__or__": "(self, other)", "__and__": "(self, other)", "__mul__": "(self, other)", "__eq__": "(self, other)",
+        "mine": "(self)", "theirs": "(self)", "endless": "(self)", "excess": "(self, other)",
+        "surely": "(self, purse)", "rounds_to_afford": "(self, needed, purse)",
+        "rounds_to_exceed": "(self, needed, purse)", "lowest": "(self, needed, limit)",
+        "highest": "(self, needed, limit)"}},
+    "pacts": {
+        "Transfer": {"__init__": "(self, payer, payee, amount)"}, "Event": {"__init__": "(self, mark)"},
+        "Choice": {"__init__": "(self, owner, options)"}, "Rounds": {"__init__": "(self, owner, body)"},
+        "Endless": {"__init__": "(self, body)"}, "Times": {"__init__": "(self, count, body)"},
+        "Pact": {"__init__": "(self, parts)", "__add__": "(self, other)", "__mul__": "(self, other)",
+                 "__eq__": "(self, other)", "__len__": "(self)", "__getitem__": "(self, at)", "__iter__": "(self)"}},
 }
 
 
@@ -42,13 +59,24 @@ class Interface(unittest.TestCase):
                 for method, signature in methods.items():
                     self.assertEqual(str(inspect.signature(vars(kind)[method])), signature)
 
-    def test_generator_property_and_class_method(self):
+    def test_generators_properties_and_class_methods(self):
         from signedpacts.countsets import CountSet
+        from signedpacts.derivations import Derivation
+        from signedpacts.least import telling
         from signedpacts.machines import Machine
-        self.assertTrue(inspect.isgeneratorfunction(Machine.texts))
+        for generator in (Machine.texts, Derivation.leftmost, telling):
+            self.assertTrue(inspect.isgeneratorfunction(generator))
         self.assertIsInstance(vars(CountSet)["rank"], property)
+        for name in ("root", "total", "size", "height"):
+            self.assertIsInstance(vars(Derivation)[name], property)
         self.assertIsInstance(vars(CountSet)["around"], classmethod)
         self.assertEqual(str(inspect.signature(CountSet.around)), "(width, rows)")
+        self.assertIsInstance(vars(Derivation)["from_rules"], classmethod)
+        self.assertEqual(str(inspect.signature(Derivation.from_rules)), "(grammar, name, numbers)")
+
+    def test_parties(self):
+        from signedpacts.parties import PARTIES
+        self.assertEqual(PARTIES, "abcdef")
 
     def test_start_and_steps_are_passed_by_keyword(self):
         from signedpacts.countsets import CountSet

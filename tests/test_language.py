@@ -19,15 +19,29 @@ class Language(unittest.TestCase):
             return list(language.in_operators({"m": ast.parse(text)}))
 
         for text in ("x = 1 / 2", "x = 1.5", "x = any(y for y in z)", "x = eval(y)", "x.encode()", "x = a is b",
-                     "x = zip(a, b)", "x = '50%'", "x = 2 ** n", "x += y"):
+                     "x = zip(a, b)", "x = '50%'", "x = 2 ** n", "x = 2 ** 65", "x += y", "x = list(reversed(y))"):
             self.assertTrue(nodes(text), text)
+        self.assertEqual(nodes("x = 10 ** 60 + len(list(reversed(list(y))))"), [])
         for text in ("min = 3", "def f(hash): pass", "def f(): self.__x = 1", "from m import a\na = 1", "_wall = 1",
                      "def f():\n" + "    pass\n" * 40):
             self.assertTrue(names(text), text)
-        for line in ("self.n = 1", "x.append(1)", "x[0] = 1", "x()", "y = x\n  y.append(1)", "y = [z(x)]\n  y[0] = 1"):
+        for line in ("self.n = 1", "x.append(1)", "x[0] = 1", "x()", "y = x\n  y.append(1)", "y = [z(x)]\n  y[0] = 1",
+                     "y = [0] * x\n  y.append(1)", "y = x + [0]\n  y.append(1)"):
             text = f"class C:\n def __add__(self, x):\n  {line}\ndef z(x):\n x.pop()\n"
             self.assertTrue(operators(text), text)
         self.assertEqual(operators("class C:\n def __add__(self, x):\n  y = []\n  y.append(x)\n"), [])
+        self.assertEqual(operators("class C:\n def __add__(self, x):\n  y = [0 for _ in x]\n  y.append(x)\n"), [])
+
+        def kinds(check, text):
+            return list(check({"m": ast.parse(text)}))
+
+        prop = "class C:\n @property\n def n(self):\n  return 1\n"
+        self.assertEqual(kinds(language.in_properties, prop), [])
+        for more in ("class D:\n def n(self):\n  return 1\n", "class D:\n def m(self):\n  self.n = 1\n", "class D:\n n = 1\n"):
+            self.assertTrue(kinds(language.in_properties, prop + more))
+        for text in ("class C:\n def __getitem__(self, at):\n  return 1\n",
+                     "class C:\n def __iter__(self):\n  yield 1\n", "class C:\n def __len__(self):\n  return 1\n"):
+            self.assertTrue(kinds(language.in_sequences, text))
         loop = "for x in enumerate(xs):\n xs.append(x)"
         self.assertTrue(list(language.in_loops("m", ast.parse(loop))))
         nested = "def f(xs):\n for x in xs:\n  pass\n return [[x for x in y] for y in xs]"

@@ -1,0 +1,20 @@
+import doctest
+import pathlib
+import re
+import unittest
+
+README = pathlib.Path(__file__).resolve().parent.parent / "README.md"
+
+
+class Readme(unittest.TestCase):
+    def test_examples(self):
+        blocks = re.findall(r"```\n(>>> .*?)```", README.read_text("utf-8"), re.S)
+        examples = doctest.DocTestParser().get_doctest("\n".join(blocks), {}, "README.md", None, 0)
+        self.assertGreater(len(examples.examples), 20)
+        told = []
+        doctest.DocTestRunner().run(examples, out=told.append)
+        self.assertEqual("".join(told), "")
+
+
+if __name__ == "__main__":
+    unittest.main()
