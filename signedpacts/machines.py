@@ -129,7 +129,7 @@ class Machine:
         counts = [1 if state == 0 else 0 for state in range(len(ways))]
         for _ in range(length):
             further = [0 for _ in ways]
-            for count, entries in zip(counts, ways):
+            for count, entries in list(zip(counts, ways)):
                 if count:
                     for target in entries:
                         further[target] = further[target] + count

@@ -92,12 +92,13 @@ def classes(rows, ends):
     for at, state in enumerate(order):
         place[state] = at
     mine = [0 if end else 1 for end in ends]
-    low = [0, ends.count(True)]
-    high = [ends.count(True), len(ends)]
+    many_good = len([end for end in ends if end])
+    low = [0, many_good]
+    high = [many_good, len(ends)]
     waiting = [0, 1]
     while waiting:
         splitter = waiting.pop()
-        inside = order[low[splitter]:high[splitter]]
+        inside = list(order[low[splitter]:high[splitter]])
         for before in back:
             fronts = {}
             for target in inside:

@@ -276,35 +276,73 @@ def changed(node):
         yield node.func
 
 
+def thing(node):
+    """The name or the attribute that items or slices are taken of, as it is written; None for everything else."""
+    while isinstance(node, ast.Subscript):
+        node = node.value
+    return ast.unparse(node) if isinstance(node, (ast.Name, ast.Attribute)) else None
+
+
 def in_loops(module, tree):
-    """L23: what a loop goes over is not changed in it."""
-    for loop in [node for node in ast.walk(tree) if isinstance(node, ast.For)]:
-        over = [one for one in ast.walk(loop.iter) if called(one) not in ("list", "sorted", "tuple")]
-        names = {one.id for one in over if isinstance(one, ast.Name)} if called(loop.iter) != "list" else set()
-        for node in [inner for statement in loop.body for inner in ast.walk(statement)]:
-            for one in changed(node):
-                if isinstance(root(one), ast.Name) and root(one).id in names and directly(loop.iter, root(one).id):
-                    yield f"{module}:{node.lineno} L23 changed in its loop"
+    """L23: what a loop goes over is not changed in it, not under another name, either."""
+    for function in functions(tree):
+        shared = shared_things(function)
+        for loop in [node for node in ast.walk(function) if isinstance(node, ast.For)]:
+            walked = {other for one in gone_over(loop.iter) for other in shared.get(one, {one})}
+            for node in [inner for statement in loop.body for inner in ast.walk(statement)]:
+                for one in changed(node):
+                    if {thing(one), thing(one.value)} & walked:
+                        yield f"{module}:{node.lineno} L23 changed in its loop"
 
 
-def directly(node, name):
-    """True if a loop over the node goes over the thing with this name, not over an item of it."""
+def shared_things(function):
+    """For each thing of a function the things that may be the same list, or one that it is cut out of.
+
+    A slice may be the thing itself, since a class of the package is indexed, too. An item is taken for what it is
+    taken of, which is narrower than the rule.
+    """
+    shared = {}
+    for node in ast.walk(function):
+        if isinstance(node, (ast.Assign, ast.NamedExpr)):
+            for one in [one for one in targets(node) if thing(one)]:
+                for other in {thing(given) for given in given_by(node.value)} - {None}:
+                    together = shared.get(thing(one), {thing(one)}) | shared.get(other, {other})
+                    for member in together:
+                        shared[member] = together
+    return shared
+
+
+def given_by(value):
+    """The names, attributes, items and slices that the value of an assignment may be."""
+    if isinstance(value, ast.IfExp):
+        return given_by(value.body) + given_by(value.orelse)
+    if isinstance(value, ast.BoolOp):
+        return [one for inner in value.values for one in given_by(inner)]
+    return [value] if isinstance(value, (ast.Name, ast.Attribute, ast.Subscript)) else []
+
+
+def gone_over(node):
+    """The things that a loop over the node goes over, or a part of which; not those of which it goes over an item."""
     if called(node) in ("enumerate", "zip", "reversed", "items", "keys", "values"):
         inner = [*node.args, *([node.func.value] if isinstance(node.func, ast.Attribute) else [])]
-        return any(directly(one, name) for one in inner)
-    return isinstance(node, ast.Name) and node.id == name
+        return {found for one in inner for found in gone_over(one)}
+    if isinstance(node, ast.Subscript):
+        return gone_over(node.value) if isinstance(node.slice, ast.Slice) else set()
+    if isinstance(node, (ast.IfExp, ast.BoolOp)):
+        return {found for one in given_by(node) for found in gone_over(one)}
+    return {thing(node)} - {None}
 
 
 def is_fresh(value):
     """True if the value of an assignment is surely a new list, dict or set.
 
     `[0] * n` is not: in a package whose classes have a `__mul__`, it may be anything unless n is plainly a number.
+    Neither is a slice, since a class of the package has a `__getitem__`.
     """
     if isinstance(value, ast.BinOp):
         return isinstance(value.op, ast.Add) and is_fresh(value.left) and is_fresh(value.right)
     new = (ast.List, ast.Dict, ast.Set, ast.ListComp, ast.DictComp, ast.SetComp)
-    return isinstance(value, new) or called(value) in ("list", "dict", "set", "sorted") or (
-        isinstance(value, ast.Subscript) and isinstance(value.slice, ast.Slice))
+    return isinstance(value, new) or called(value) in ("list", "dict", "set", "sorted")
 
 
 def own_things(function):
@@ -320,7 +358,10 @@ def own_things(function):
 
 
 def in_operators(all_trees):
-    """L5: what an operator or a property runs changes only lists and dicts that it made itself."""
+    """L5, L18, L28: what an operator or a property runs changes only lists and dicts that it made itself, and calls
+    nothing that it is passed or that an object holds: no method whose name some class has as an attribute, either."""
+    held = {node.attr for tree in all_trees.values() for kind in classes(tree) for node in ast.walk(kind)
+            if isinstance(node, ast.Attribute) and isinstance(node.ctx, ast.Store)}
     known, waiting = {}, []
     for module, tree in all_trees.items():
         for node in functions(tree):
@@ -351,6 +392,8 @@ def in_operators(all_trees):
             if isinstance(node, ast.Call):
                 if isinstance(node.func, ast.Name) and node.func.id in local | set(parameters(function)) - {"cls"}:
                     yield where
+                if isinstance(node.func, ast.Attribute) and node.func.attr in held:
+                    yield f"{where} .{node.func.attr}(..), which may be an attribute"
                 if called(node) not in METHODS:
                     waiting.extend(known.get(called(node), []))
 
