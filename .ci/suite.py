@@ -45,14 +45,16 @@ def run_all():
     """Runs the tests of all folders on all Pythons; returns the exit code."""
     folders = [HERE / "tests"] + ([SHARED] if SHARED.is_dir() and any(SHARED.rglob("test_*.py")) else [])
     passed, failed = 0, 0
-    for version, command in pythons().items():
-        for folder in folders:
-            print(f"Python {version}, {folder}", flush=True)
-            told = subprocess.run([command, "-B", __file__, str(folder)], stdout=subprocess.PIPE, text=True, cwd=HERE)
-            print(told.stdout, flush=True)
-            counts = [line.split()[1:] for line in told.stdout.splitlines() if line.startswith("counted ")]
+    for folder in folders:
+        # All Pythons at once: each of them has a process of its own.
+        running = [(version, subprocess.Popen([command, "-B", __file__, str(folder)], stdout=subprocess.PIPE, text=True,
+                                              cwd=HERE)) for version, command in pythons().items()]
+        for version, process in running:
+            told, _ = process.communicate()
+            print(f"Python {version}, {folder}\n{told}", flush=True)
+            counts = [line.split()[1:] for line in told.splitlines() if line.startswith("counted ")]
             more, bad = map(int, counts[-1]) if counts else (0, 1)
-            passed, failed = passed + more, failed + max(bad, 1 if told.returncode else 0)
+            passed, failed = passed + more, failed + max(bad, 1 if process.returncode else 0)
     print(f"{passed} passed, {failed} failed")
     return 1 if failed else 0
 

@@ -193,7 +193,8 @@ def in_classes(all_trees):
                       if isinstance(node, ast.Attribute) and isinstance(node.ctx, ast.Store)}
             for name in set(mine) & fields:
                 yield f"L18 {kind.name}.{name} is a method and an attribute"
-            assigned |= fields
+            values = {node.targets[0].id for node in kind.body if isinstance(node, ast.Assign)}
+            assigned |= fields | values
             methods += mine
         for function in functions(tree):
             if any(isinstance(node, ast.Yield) for node in ast.walk(function)):

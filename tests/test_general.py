@@ -2,18 +2,25 @@
 import copy
 import unittest
 
+from signedpacts.balances import balance_row, balances
 from signedpacts.certificates import accepts, certificate
 from signedpacts.claims import keeps
 from signedpacts.countsets import CountSet
 from signedpacts.derivations import Derivation
-from signedpacts.errors import BadNeed, BadPart, BadRow, BadRule, BadStep, BadWidth
+from signedpacts.errors import BadAmount, BadMove, BadNeed, BadPart, BadRow, BadRule, BadStep, BadWidth, NoPurse
 from signedpacts.grammars import Grammar
 from signedpacts.least import breaking, least_set, telling
 from signedpacts.living import base_derivation, live_names
+from signedpacts.keepers import Keeper
 from signedpacts.machines import Machine
 from signedpacts.needs import Need
+from signedpacts.notation import parse_pact
 from signedpacts.pacts import Choice, Event, Pact, Times
+from signedpacts.playgrammars import derivation_of, moves_of, play_grammar
+from signedpacts.plays import Play
+from signedpacts.purses import least_purse, need_of
 from signedpacts.rows import combine
+from signedpacts.runs import history_of, run_need, runs
 from signedpacts.stairs import remainder, staircase
 
 
@@ -66,8 +73,20 @@ def choice_fields(owner, options):
     return Choice(owner, options).text, Choice(owner, options).options[0].parts
 
 
+def derived_moves(moves):
+    derivation = derivation_of(PACT, moves, parties="ab", marks="D")
+    return derivation.steps, derivation.total, moves_of(PACT, derivation)
+
+
+def play_fields(number):
+    play = Play(PACT, {"a": 9, "b": 0})
+    play.move(("rounds", number))
+    return play.moves(), play.happened(), tuple((part.text, limit) for part, limit in play.row())
+
+
 RULES = [["S", [1, 2], ["S"]], ["S", [0, 0], ["T"]], ["T", [3, 0], ["T"]], ["T", [0, 0], []]]
 DAY, MONTH = Event("D"), Event("M")
+PACT = parse_pact("a[ab1, b(D | .)]")
 PAPER = certificate(Grammar(2, ["S", "T"], RULES))
 
 CALLS = [
@@ -87,6 +106,14 @@ CALLS = [
     (least_fields, [RULES, [[1, 0], 0, 0]]),
     (lambda paper: accepts(Grammar(2, ["S", "T"], RULES), paper), [PAPER]),
     (need_fields, [2, [[0, 3], [5, 6]], 9]),
+    (lambda told: (run_need(told, "a", needed=2), history_of(told)), [["ab5", "D", "ba3"]]),
+    (lambda told, parties, marks: balance_row(told, parties=parties, marks=marks),
+     [["ab5", "D", "ba3"], ["a", "c"], ["D"]]),
+    (derived_moves, [[["rounds", 2], ["take", 0], ["rounds", 1], ["take", 1]]]),
+    (play_fields, [2]),
+    (lambda most: tuple(runs(PACT, most=most)), [2]),
+    (lambda parties: set_fields(balances(PACT, parties=parties, marks="D")), [["a", "b"]]),
+    (lambda parties: play_grammar(PACT, parties=parties, marks="D").rules, [["a", "b"]]),
 ]
 
 
@@ -191,6 +218,22 @@ class GeneralRules(unittest.TestCase):
             self.assertEqual([(one + other).text, (one * 3).text, Times(3, one).text], ["D, M", "3(D)", "3(D)"])
             self.assertRaises(BadPart, lambda: one + [MONTH])
         self.assertEqual([(pact.parts, pact.weight, pact.depth, pact.text) for pact in (one, other)], before)
+
+    def test_plays_are_changed_by_their_moves_alone(self):
+        purses = {"a": 9, "b": 0}
+        play = Play(PACT, purses)
+        play.move(("rounds", 3))
+        before = (play.turn, play.purses(), play.moves(), play.row(), play.happened())
+        for _ in range(2):
+            self.assertEqual([least_purse(play, "a", needed=3), need_of(PACT, "a")(3)], [3, 3])
+            self.assertRaises(BadMove, play.move, ["take", 0])
+            self.assertRaises(BadAmount, Keeper, "a", needed=-1)
+            self.assertRaises(NoPurse, play.coins, "f")
+            self.assertEqual(play.twin().moves(), play.moves())
+            self.assertEqual((play.turn, play.purses(), play.moves(), play.row(), play.happened()), before)
+        self.assertEqual((purses, PACT.text), ({"a": 9, "b": 0}, "a[ab1, b(D | .)]"))
+        self.assertIsNone(play.move(("take", 0)))
+        self.assertIsNone(play.undo())
 
     def test_two_generators_at_once(self):
         machine = Machine("ab", [[0, 0]])

@@ -10,6 +10,13 @@ FUNCTIONS = {
     "living": {"live_names": "(grammar)", "base_derivation": "(grammar, name)"},
     "least": {"least_set": "(grammar, name)", "telling": "(grammar, name)", "breaking": "(grammar, name, claim)"},
     "certificates": {"certificate": "(grammar)", "accepts": "(grammar, paper)"},
+    "notation": {"parse_pact": "(text)"},
+    "runs": {"runs": "(pact, *, most=1)", "run_need": "(happenings, party, *, needed=0)",
+             "history_of": "(happenings)"},
+    "purses": {"need_of": "(pact, party)", "least_purse": "(play, party, *, needed=0)", "pact_for": "(need)"},
+    "balances": {"balance_row": "(happenings, *, parties, marks)", "balances": "(pact, *, parties, marks)"},
+    "playgrammars": {"play_grammar": "(pact, *, parties, marks)", "moves_of": "(pact, derivation)",
+                     "derivation_of": "(pact, moves, *, parties, marks)"},
 }
 CLASSES = {
     "machines": {"Machine": {
@@ -38,6 +45,12 @@ CLASSES = {
         "Endless": {"__init__": "(self, body)"}, "Times": {"__init__": "(self, count, body)"},
         "Pact": {"__init__": "(self, parts)", "__add__": "(self, other)", "__mul__": "(self, other)",
                  "__eq__": "(self, other)", "__len__": "(self)", "__getitem__": "(self, at)", "__iter__": "(self)"}},
+    "plays": {"Play": {
+        "__init__": "(self, pact, purses)", "move": "(self, move)", "undo": "(self)", "coins": "(self, party)",
+        "purses": "(self)", "moves": "(self)", "row": "(self)", "twin": "(self)", "happened": "(self)"}},
+    "keepers": {
+        "Keeper": {"__init__": "(self, party, *, needed=0)", "move": "(self, play)"},
+        "Breaker": {"__init__": "(self, party, *, needed=0)", "move": "(self, play)"}},
 }
 
 
@@ -64,11 +77,15 @@ class Interface(unittest.TestCase):
         from signedpacts.derivations import Derivation
         from signedpacts.least import telling
         from signedpacts.machines import Machine
-        for generator in (Machine.texts, Derivation.leftmost, telling):
+        from signedpacts.plays import Play
+        from signedpacts.runs import runs
+        for generator in (Machine.texts, Derivation.leftmost, telling, runs):
             self.assertTrue(inspect.isgeneratorfunction(generator))
         self.assertIsInstance(vars(CountSet)["rank"], property)
         for name in ("root", "total", "size", "height"):
             self.assertIsInstance(vars(Derivation)[name], property)
+        for name in ("turn", "outcome", "loser"):
+            self.assertIsInstance(vars(Play)[name], property)
         self.assertIsInstance(vars(CountSet)["around"], classmethod)
         self.assertEqual(str(inspect.signature(CountSet.around)), "(width, rows)")
         self.assertIsInstance(vars(Derivation)["from_rules"], classmethod)
