@@ -15,3 +15,9 @@ def check_mark(mark):
     """Raises BadMark if the text is not a mark."""
     if len(mark) != 1 or mark not in MARKS:
         raise BadMark(mark)
+
+
+def check_marks(letters):
+    """Raises BadMark for the first letter that is not a mark."""
+    for letter in letters:
+        check_mark(letter)

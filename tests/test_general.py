@@ -5,10 +5,18 @@ import unittest
 from signedpacts.balances import balance_row, balances
 from signedpacts.certificates import accepts, certificate
 from signedpacts.claims import keeps
+from signedpacts.clashes import core, first_clash
 from signedpacts.countsets import CountSet
+from signedpacts.dayrules import DayRule, last_good, next_good, shift
+from signedpacts.deadlines import plan_days
 from signedpacts.derivations import Derivation
-from signedpacts.errors import BadAmount, BadMove, BadNeed, BadPart, BadRow, BadRule, BadStep, BadWidth, NoPurse
+from signedpacts.duties import answered, never
+from signedpacts.errors import (BadAmount, BadDays, BadEvent, BadMove, BadNeed, BadPart, BadRow, BadRule, BadStep,
+                                BadWait, BadWidth, CannotKeep, LettersDiffer, NoPurse)
 from signedpacts.grammars import Grammar
+from signedpacts.guards import Guard, can_guard, guard_states
+from signedpacts.histories import first_history, histories, moves_for
+from signedpacts.lapses import first_lapse
 from signedpacts.least import breaking, least_set, telling
 from signedpacts.living import base_derivation, live_names
 from signedpacts.keepers import Keeper
@@ -114,6 +122,10 @@ CALLS = [
     (lambda most: tuple(runs(PACT, most=most)), [2]),
     (lambda parties: set_fields(balances(PACT, parties=parties, marks="D")), [["a", "b"]]),
     (lambda parties: play_grammar(PACT, parties=parties, marks="D").rules, [["a", "b"]]),
+    (lambda days: (DayRule(days).days, (DayRule(days) * 3).days, DayRule(days).latest().days, DayRule(days).ring()),
+     [[0, 0, 2]]),
+    (lambda good: (next_good(7, good).days, last_good(7, good).days), [[4, 0, 0, 3]]),
+    (lambda many: moves_for(PACT, "D" * many, letters="D"), [3]),
 ]
 
 
@@ -234,6 +246,33 @@ class GeneralRules(unittest.TestCase):
         self.assertEqual((purses, PACT.text), ({"a": 9, "b": 0}, "a[ab1, b(D | .)]"))
         self.assertIsNone(play.move(("take", 0)))
         self.assertIsNone(play.undo())
+
+    def test_bounds_and_duties_in_lists_and_tuples(self):
+        rule, back = shift(2), shift(-3)
+        for bounds, answer in (([["from", 0, 1, rule]], ("days", (1, 3))), ([["from", 0, 0, rule]], ("ring", (0,), 1)),
+                               ([["by", 1, 0, back]], ("days", (1, 4)))):
+            for given in (bounds, tuple(map(tuple, bounds)), list(map(tuple, bounds))):
+                before = list(given)
+                self.assertEqual([plan_days(len(answer[1]), given, 1) for _ in range(2)], [answer] * 2)
+                self.assertEqual(list(given), before)
+        duties = [never("D", "D"), answered("D", "D", "D")]
+        self.assertEqual([core(PACT, duties), core(PACT, tuple(duties)), len(duties)], [(0,), (0,), 2])
+
+    def test_questions_about_duties_and_days_change_nothing(self):
+        duty, waits = never("D", "D"), {"D": shift(2)}
+        before = (duty.letters, duty.rows, duty.good, PACT.text, list(waits))
+        for _ in range(2):
+            self.assertEqual((first_history(PACT, ~duty), histories(PACT, letters="D").how_many(4), core(PACT, [duty])),
+                             ("D", 1, (0,)))
+            self.assertEqual((guard_states(PACT, "b", duty), can_guard(PACT, "a", duty)), ((0,), True))
+            self.assertEqual(first_lapse(PACT, waits, "D", "D", shift(1)), ("DD", 0))
+            self.assertIsNone(first_clash(PACT, duty, duty))
+            self.assertRaises(LettersDiffer, first_clash, PACT, duty, never("DE", "D"))
+            self.assertRaises(CannotKeep, Guard("a", ~duty).move, Play(parse_pact("a(. | E)"), {"a": 0}))
+            self.assertRaises(BadWait, first_lapse, PACT, {"D": shift(-1)}, "D", "D", shift(1))
+            self.assertRaises(BadEvent, plan_days, 1, [("from", 0, 1, waits["D"])], 0)
+            self.assertRaises(BadDays, DayRule, [1, 0])
+            self.assertEqual((duty.letters, duty.rows, duty.good, PACT.text, list(waits)), before)
 
     def test_two_generators_at_once(self):
         machine = Machine("ab", [[0, 0]])

@@ -17,6 +17,15 @@ FUNCTIONS = {
     "balances": {"balance_row": "(happenings, *, parties, marks)", "balances": "(pact, *, parties, marks)"},
     "playgrammars": {"play_grammar": "(pact, *, parties, marks)", "moves_of": "(pact, derivation)",
                      "derivation_of": "(pact, moves, *, parties, marks)"},
+    "duties": {"never": "(letters, mark)", "only_after": "(letters, mark, earlier)",
+               "answered": "(letters, mark, answer)", "at_most": "(letters, mark, times)"},
+    "histories": {"histories": "(pact, *, letters)", "first_history": "(pact, duty)",
+                  "moves_for": "(pact, history, *, letters)"},
+    "clashes": {"first_clash": "(pact, one, other)", "core": "(pact, duties)"},
+    "guards": {"guard_states": "(pact, party, duty)", "can_guard": "(pact, party, duty)"},
+    "dayrules": {"shift": "(days)", "next_good": "(period, good)", "last_good": "(period, good)"},
+    "deadlines": {"plan_days": "(many, bounds, start)"},
+    "lapses": {"first_lapse": "(pact, waits, mark, answer, rule)"},
 }
 CLASSES = {
     "machines": {"Machine": {
@@ -51,6 +60,13 @@ CLASSES = {
     "keepers": {
         "Keeper": {"__init__": "(self, party, *, needed=0)", "move": "(self, play)"},
         "Breaker": {"__init__": "(self, party, *, needed=0)", "move": "(self, play)"}},
+    "guards": {
+        "Guard": {"__init__": "(self, party, duty)", "move": "(self, play)"},
+        "Spoiler": {"__init__": "(self, party, duty)", "move": "(self, play)"}},
+    "dayrules": {"DayRule": {
+        "__init__": "(self, days)", "__call__": "(self, day)", "__rshift__": "(self, other)",
+        "__or__": "(self, other)", "__and__": "(self, other)", "__mul__": "(self, other)", "__eq__": "(self, other)",
+        "latest": "(self)", "soonest": "(self)", "exceeds": "(self, other)", "ring": "(self)"}},
 }
 
 
@@ -74,6 +90,7 @@ class Interface(unittest.TestCase):
 
     def test_generators_properties_and_class_methods(self):
         from signedpacts.countsets import CountSet
+        from signedpacts.dayrules import DayRule
         from signedpacts.derivations import Derivation
         from signedpacts.least import telling
         from signedpacts.machines import Machine
@@ -86,6 +103,7 @@ class Interface(unittest.TestCase):
             self.assertIsInstance(vars(Derivation)[name], property)
         for name in ("turn", "outcome", "loser"):
             self.assertIsInstance(vars(Play)[name], property)
+        self.assertIsInstance(vars(DayRule)["period"], property)
         self.assertIsInstance(vars(CountSet)["around"], classmethod)
         self.assertEqual(str(inspect.signature(CountSet.around)), "(width, rows)")
         self.assertIsInstance(vars(Derivation)["from_rules"], classmethod)
