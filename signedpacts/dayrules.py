@@ -22,7 +22,7 @@ def led(days, day):
 def least_days(days):
     """The days for the least possible period."""
     many = len(days)
-    for period in range(1, many + 1):
+    for period in range(1, many):
         if many % period == 0 and all([led(days, at + period) == days[at] + period for at in range(many)]):
             return tuple(days[:period])
     return tuple(days)

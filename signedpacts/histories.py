@@ -1,5 +1,5 @@
 """The histories of the done plays of a pact ([52], [54])."""
-from signedpacts.machines import Machine, check_letters
+from signedpacts.machines import Machine
 from signedpacts.parties import check_marks
 from signedpacts.sketches import Sketch
 from signedpacts.spans import Spans
@@ -9,7 +9,6 @@ from signedpacts.subsets import mask_of, subsets
 def histories(pact, *, letters):
     """The machine that accepts the histories of the done plays, without the marks that are not letters."""
     check_marks(letters)
-    check_letters(letters)
     sketch = Sketch(letters)
     is_empty, firsts, lasts = sketch.draw_parts(pact.parts)
     # One state for each event that was the last one so far, and one for the beginning.

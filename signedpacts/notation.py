@@ -89,8 +89,9 @@ class Reader:
 
     def add_part(self, kind, head, contents):
         """Writes down a part that is complete."""
+        bracket = self.brackets[-1]
         self.orders.append((kind, head, contents))
-        self.brackets[-1].parts_read += 1
+        bracket.parts_read += 1
         self.expected = "behind"
 
     def end_pact(self):

@@ -17,9 +17,12 @@ def up_to_move(chain, happenings):
     """The chain and the happenings when no member can be carried out any more without a move."""
     rest = chain
     told = happenings
-    while rest is not None and owner_of(rest[0], rest[1]) is None and rest[0].KIND != "endless":
-        if rest[0].KIND in ("transfer", "event"):
-            told = (rest[0].text, told)
+    while rest is not None:
+        part, limit, _ = rest
+        if owner_of(part, limit) is not None or part.KIND == "endless":
+            break
+        if part.KIND in ("transfer", "event"):
+            told = (part.text, told)
         rest = carried_out(rest)
     return rest, told
 

@@ -184,8 +184,8 @@ def in_names(module, tree):
 
 
 def in_classes(all_trees):
-    """L18, L23: methods and attributes, and generators with names of their own."""
-    assigned, methods, generators = set(), [], []
+    """L5, L18, L23: methods, attributes and class values, and generators with names of their own."""
+    assigned, methods, generators, constant = set(), [], [], set()
     for tree in all_trees.values():
         for kind in classes(tree):
             mine = [node.name for node in kind.body if isinstance(node, ast.FunctionDef)]
@@ -195,6 +195,7 @@ def in_classes(all_trees):
                 yield f"L18 {kind.name}.{name} is a method and an attribute"
             values = {node.targets[0].id for node in kind.body if isinstance(node, ast.Assign)}
             assigned |= fields | values
+            constant |= values
             methods += mine
         for function in functions(tree):
             if any(isinstance(node, ast.Yield) for node in ast.walk(function)):
@@ -207,6 +208,9 @@ def in_classes(all_trees):
         for node in ast.walk(tree):
             if isinstance(node, ast.Attribute) and node.attr not in assigned | set(methods) | METHODS:
                 yield f"{module}:{node.lineno} L18 attribute {node.attr}"
+            if isinstance(node, ast.Attribute) and not isinstance(node.value, ast.Name):
+                if node.attr in constant or isinstance(node.ctx, ast.Store):
+                    yield f"{module}:{node.lineno} L5, L18 {node.attr} of something without a name"
 
 
 def in_properties(all_trees):

@@ -121,7 +121,8 @@ class Deadlines(unittest.TestCase):
 
     def test_wrong_events(self):
         for bounds, at in (([("from", 0, 2, WORK)], 0), ([("from", 0, 1, WORK), ("by", -1, 0, WORK)], 1),
-                           ([("from", 0, 0, shift(1)), ("by", 1, 1, WORK), ("by", 2, 0, WORK), ("from", 9, 9, WORK)], 2)):
+                           ([("from", 0, 0, shift(1)), ("by", 1, 1, WORK), ("by", 2, 0, WORK), ("from", 9, 9, WORK)], 2),
+                           ([("by", 0, -1, WORK)], 0), ([("by", 1, 0, WORK), ("from", 0, -1, WORK)], 1)):
             before = list(bounds)
             with self.assertRaises(BadEvent) as caught:
                 plan_days(2, bounds, 0)

@@ -151,6 +151,30 @@ class Players(GuardTest):
         self.raises(CannotKeep, {}, Spoiler("a", at_most("D", "D", 5)).move, play)
         self.assertEqual(Spoiler("a", at_most("D", "D", 3)).move(play), ("rounds", 3))
 
+    def test_limits_behind_the_choice(self):
+        def after(text, *moves):
+            play = play_of(text)
+            for move in moves:
+                play.move(move)
+            return play
+
+        # The others can still make as many rounds as are left, and no more.
+        thrice = at_most("DE", "D", 3)
+        for named, answer in ((1, 0), (2, 0), (3, 1), (4, None), (10 ** 200, None)):
+            play = after("b[D, a(D | .)]", ("rounds", named))
+            if answer is None:
+                self.raises(CannotKeep, {}, Guard("a", thrice).move, play)
+            else:
+                self.assertEqual(Guard("a", thrice).move(play), ("take", answer))
+        # The party can still make as many rounds as are left, and no more.
+        least = ~at_most("DE", "D", 2)
+        for named, answer in ((1, 0), (2, 1), (3, None), (10 ** 200, None)):
+            play = after("a[D, b(D | .)]", ("rounds", named))
+            if answer is None:
+                self.raises(CannotKeep, {}, Spoiler("a", least).move, play)
+            else:
+                self.assertEqual(Spoiler("a", least).move(play), ("take", answer))
+
     def test_what_has_happened_counts(self):
         play = play_of("b(D | E), a(D | E)")
         once = at_most("DE", "D", 1)

@@ -3,7 +3,7 @@ import time
 import unittest
 
 from signedpacts.duties import answered, never
-from signedpacts.errors import BadMark
+from signedpacts.errors import BadLetters, BadMark
 from signedpacts.histories import first_history, histories, moves_for
 from signedpacts.machines import Machine
 from signedpacts.notation import parse_pact
@@ -68,6 +68,8 @@ class Histories(HistoryTest):
             self.raises(BadMark, {"mark": letter}, histories, pact, letters=letters)
             self.raises(BadMark, {"mark": letter}, moves_for, pact, "D", letters=letters)
             self.raises(BadMark, {"mark": letter}, first_history, pact, Machine(letters, []))
+        for letters in ("", "DD"):
+            self.raises(BadLetters, {"letters": letters}, histories, pact, letters=letters)
 
 
 class FirstHistories(HistoryTest):

@@ -40,6 +40,10 @@ class Language(unittest.TestCase):
         def kinds(check, text):
             return list(check({"m": ast.parse(text)}))
 
+        held = "class C:\n K = 1\n def __init__(self, n):\n  self.n = n\ndef f(x):\n y = x[0]\n "
+        for line, fine in (("return y.K", True), ("return x[0].K", False), ("return x.n.K", False), ("y.n = 1", True),
+                           ("x[0].n = 1", False), ("x.n.n += 1", False), ("return x[0].n", True), ("return x.m", False)):
+            self.assertEqual(kinds(language.in_classes, held + line) == [], fine, line)
         prop = "class C:\n @property\n def n(self):\n  return 1\n"
         self.assertEqual(kinds(language.in_properties, prop), [])
         for more in ("class D:\n def n(self):\n  return 1\n", "class D:\n def m(self):\n  self.n = 1\n", "class D:\n n = 1\n"):

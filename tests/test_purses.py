@@ -174,6 +174,9 @@ class LeastPurses(PurseTest):
         for party in NO_PARTIES:
             self.raises(BadParty, {"party": party}, least_purse, play, party, needed=-1)
         self.raises(BadAmount, {"value": -1}, least_purse, play, "a", needed=-1)
+        limited = rich_play(parse_pact("b[ba1, [.]]"))
+        limited.move(("rounds", 1))
+        self.raises(BadAmount, {"value": -1}, least_purse, limited, "a", needed=-1)
         self.raises(BadAmount, {"value": -10 ** 299}, least_purse, play, "f", needed=-10 ** 299)
         before = (play.moves(), play.purses(), play.row())
         least_purse(play, "a", needed=7)
