@@ -19,6 +19,11 @@ def led(days, day):
     return days[day % many] + day // many * many
 
 
+def common_period(one, other):
+    """The number of days after which both rules, given by their days, repeat."""
+    return lcm(len(one), len(other))
+
+
 def least_days(days):
     """The days for the least possible period."""
     many = len(days)
@@ -75,15 +80,15 @@ class DayRule:
         return led(self.days, day)
 
     def __rshift__(self, other):
-        many = lcm(len(self.days), len(other.days))
+        many = common_period(self.days, other.days)
         return DayRule([led(other.days, led(self.days, day)) for day in range(many)])
 
     def __or__(self, other):
-        many = lcm(len(self.days), len(other.days))
+        many = common_period(self.days, other.days)
         return DayRule([max(led(self.days, day), led(other.days, day)) for day in range(many)])
 
     def __and__(self, other):
-        many = lcm(len(self.days), len(other.days))
+        many = common_period(self.days, other.days)
         return DayRule([min(led(self.days, day), led(other.days, day)) for day in range(many)])
 
     def __mul__(self, other):
@@ -114,7 +119,7 @@ class DayRule:
 
     def exceeds(self, other):
         """The least day from 0 on that this rule leads to a later day than the other one, or None."""
-        for day in range(lcm(len(self.days), len(other.days))):
+        for day in range(common_period(self.days, other.days)):
             if led(self.days, day) > led(other.days, day):
                 return day
         return None

@@ -17,7 +17,7 @@ def force_of(bound):
     return (one, other, rule) if word == "from" else (other, one, rule.soonest())
 
 
-def common_period(rules):
+def period_of_all(rules):
     """The least common multiple of the periods of the rules."""
     many = 1
     for rule in rules:
@@ -46,7 +46,7 @@ def plan_days(many, bounds, start):
     """("days", days) with the earliest days that keep the bounds, or ("ring", walk, day) if there are none."""
     check_events(many, bounds)
     forces = [force_of(bound) for bound in bounds]
-    period = common_period([rule for _, _, _, rule in bounds])
+    period = period_of_all([rule for _, _, _, rule in bounds])
     # A record is an event, a day on which it is at the earliest, the bound that forces this, and the record of the
     # event from which it does.
     records = [(event, start, None, None) for event in range(many)]

@@ -1,6 +1,6 @@
 """Answers that come too late ([65])."""
 from signedpacts.clocks import Clock, layers_of, text_of
-from signedpacts.deadlines import common_period
+from signedpacts.deadlines import period_of_all
 from signedpacts.errors import BadWait
 from signedpacts.histories import histories
 from signedpacts.parties import MARKS, check_mark
@@ -29,7 +29,7 @@ def first_lapse(pact, waits, mark, answer, rule):
     letters = "".join([letter for letter in MARKS if letter in pact.text])
     if mark not in letters or answer not in letters:
         return None
-    period = common_period([rule, *list(waits.values())])
+    period = period_of_all([rule, *list(waits.values())])
     none = [0 for _ in range(period)]
     delays = [changes_of(waits[letter], period) if letter in waits else none for letter in letters]
     told = histories(pact, letters=letters).beginnings()
