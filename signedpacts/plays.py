@@ -1,17 +1,13 @@
 """Plays: pacts that are carried out step by step ([38] to [41])."""
-from signedpacts.errors import BadAmount, BadMove, NoMoves, NoPurse, PlayOver
+from signedpacts.coins import check_purses
+from signedpacts.errors import BadMove, NoMoves, NoPurse, PlayOver
 from signedpacts.pacts import Pact, check_pact
 from signedpacts.parties import PARTIES, check_party
 from signedpacts.rests import carried_out, in_front, is_allowed, members_of, moved, owner_of
 
 
-def check_purses(pact, purses):
-    """Raises the first error of purses that do not fit the pact."""
-    for party in purses:
-        check_party(party)
-    for coins in purses.values():
-        if coins < 0:
-            raise BadAmount(coins)
+def check_named(pact, purses):
+    """Raises NoPurse for the first party that the pact names but that has no purse."""
     for party in PARTIES:
         # A written pact has small letters for the parties alone.
         if party in pact.text and party not in purses:
@@ -23,7 +19,8 @@ class Play:
 
     def __init__(self, pact, purses):
         check_pact(pact)
-        check_purses(pact, purses)
+        check_purses(purses)
+        check_named(pact, purses)
         self._coins_of = {party: coins for party, coins in purses.items()}
         self._chain = in_front(pact.parts, None)
         self._happenings = []
