@@ -10,103 +10,105 @@ MOST_OPTIONS = 6
 class Bracket:
     """An open bracket: what it makes, its owner or count, the sign that closes it, and what was read in it."""
 
-    def __init__(self, making, head, closer):
+    def __init__(self, making, head, closer, pacts_read, parts_read):
         self.making = making
         self.head = head
         self.closer = closer
-        self.pacts_read = 0
-        self.parts_read = 0
+        self.pacts_read = pacts_read
+        self.parts_read = parts_read
 
 
-class Reader:
-    """Reads tokens and writes down orders, each behind those for what it contains: (kind, head, how many contents).
+class Point:
+    """How far a text has been read. It is never changed, so that an operator can read texts, too.
 
     `expected` tells what can stand next: the start of a "pact" or of a "part", the "bracket" behind an owner or
-    a count, what stands "behind" a part, or what stands behind the "empty" pact.
+    a count, what stands "behind" a part, or what stands behind the "empty" pact. `head` is the owner or the count
+    that was read last, `brackets` has the open brackets, the whole text as the first one.
     """
 
-    def __init__(self):
-        self.orders = []
-        self.expected = "pact"
-        self.head = ""
-        self.head_kind = ""
-        self.brackets = [Bracket("whole", "", "")]
+    def __init__(self, expected, head, head_kind, brackets):
+        self.expected = expected
+        self.head = head
+        self.head_kind = head_kind
+        self.brackets = brackets
 
-    def take(self, kind, word):
-        """Reads one token; returns False if it cannot stand here."""
-        if self.expected in ("pact", "part"):
-            return self.take_start(kind, word)
-        if self.expected == "bracket":
-            return self.take_bracket(kind)
-        return self.take_behind(kind)
 
-    def take_start(self, kind, word):
-        """Reads the first token of a pact or of a part."""
-        if kind == "." and self.expected == "pact":
-            self.expected = "empty"
-            return True
-        if kind in ("transfer", "event"):
-            self.add_part(kind, word, 0)
-            return True
-        if kind in ("owner", "count"):
-            self.head = word
-            self.head_kind = kind
-            self.expected = "bracket"
-            return True
-        return kind == "[" and self.begin("endless", "", "]")
+# What reads a token returns the point behind it and the orders that are complete with it, or None if the token
+# cannot stand there. An order is a tuple (kind, head, how many contents), behind the orders for what it contains.
 
-    def take_bracket(self, kind):
-        """Reads the bracket behind an owner or a count."""
-        if kind == "(":
-            return self.begin("choice" if self.head_kind == "owner" else "times", self.head, ")")
-        return kind == "[" and self.head_kind == "owner" and self.begin("rounds", self.head, "]")
+def after_token(point, kind, word):
+    """Reads one token."""
+    if point.expected in ("pact", "part"):
+        return after_start(point, kind, word)
+    if point.expected == "bracket":
+        return after_bracket(point, kind)
+    return after_behind(point, kind)
 
-    def take_behind(self, kind):
-        """Reads what stands behind a part or behind the empty pact."""
-        bracket = self.brackets[-1]
-        if kind == "," and self.expected == "behind":
-            self.expected = "part"
-            return True
-        if kind == "|" and bracket.making == "choice" and bracket.pacts_read < MOST_OPTIONS - 1:
-            self.end_pact()
-            self.expected = "pact"
-            return True
-        if kind != bracket.closer or (bracket.making == "choice" and bracket.pacts_read == 0):
-            return False
-        self.end_pact()
-        self.brackets.pop()
-        self.add_part(bracket.making, bracket.head, bracket.pacts_read)
-        return True
 
-    def begin(self, making, head, closer):
-        """Opens a bracket; returns False if too many would be open."""
-        # The first one is the whole text.
-        if len(self.brackets) > MOST_BRACKETS:
-            return False
-        self.brackets.append(Bracket(making, head, closer))
-        self.expected = "pact"
-        return True
+def after_start(point, kind, word):
+    """Reads the first token of a pact or of a part."""
+    if kind == "." and point.expected == "pact":
+        return Point("empty", "", "", point.brackets), []
+    if kind in ("transfer", "event"):
+        return Point("behind", "", "", with_part(point.brackets)), [(kind, word, 0)]
+    if kind in ("owner", "count"):
+        return Point("bracket", word, kind, point.brackets), []
+    return begun(point, "endless", "", "]") if kind == "[" else None
 
-    def add_part(self, kind, head, contents):
-        """Writes down a part that is complete."""
-        bracket = self.brackets[-1]
-        self.orders.append((kind, head, contents))
-        bracket.parts_read += 1
-        self.expected = "behind"
 
-    def end_pact(self):
-        """Writes down a pact that is complete."""
-        bracket = self.brackets[-1]
-        self.orders.append(("pact", "", bracket.parts_read))
-        bracket.parts_read = 0
-        bracket.pacts_read += 1
+def after_bracket(point, kind):
+    """Reads the bracket behind an owner or a count."""
+    if kind == "(":
+        return begun(point, "choice" if point.head_kind == "owner" else "times", point.head, ")")
+    if kind == "[" and point.head_kind == "owner":
+        return begun(point, "rounds", point.head, "]")
+    return None
 
-    def finish(self):
-        """Reads the end of the text; returns False if it comes too early."""
-        if len(self.brackets) > 1 or self.expected not in ("behind", "empty"):
-            return False
-        self.end_pact()
-        return True
+
+def after_behind(point, kind):
+    """Reads what stands behind a part or behind the empty pact."""
+    bracket = point.brackets[-1]
+    if kind == "," and point.expected == "behind":
+        return Point("part", "", "", point.brackets), []
+    ending = ("pact", "", bracket.parts_read)
+    if kind == "|" and bracket.making == "choice" and bracket.pacts_read < MOST_OPTIONS - 1:
+        more = Bracket(bracket.making, bracket.head, bracket.closer, bracket.pacts_read + 1, 0)
+        return Point("pact", "", "", (*point.brackets[:-1], more)), [ending]
+    if kind != bracket.closer or (bracket.making == "choice" and bracket.pacts_read == 0):
+        return None
+    whole = (bracket.making, bracket.head, bracket.pacts_read + 1)
+    return Point("behind", "", "", with_part(point.brackets[:-1])), [ending, whole]
+
+
+def begun(point, making, head, closer):
+    """Opens a bracket, unless too many would be open."""
+    # The first one is the whole text.
+    if len(point.brackets) > MOST_BRACKETS:
+        return None
+    return Point("pact", "", "", (*point.brackets, Bracket(making, head, closer, 0, 0))), []
+
+
+def with_part(brackets):
+    """The brackets when one more part is complete in the last one."""
+    last = brackets[-1]
+    more = Bracket(last.making, last.head, last.closer, last.pacts_read, last.parts_read + 1)
+    return (*brackets[:-1], more)
+
+
+def orders_of(text):
+    """The orders for a text; raises BadText if it is not a written pact."""
+    orders = []
+    point = Point("pact", "", "", (Bracket("whole", "", "", 0, 0),))
+    for at, kind, word in tokens_of(text):
+        found = after_token(point, kind, word)
+        if found is None:
+            raise BadText(at)
+        point, ready = found
+        orders.extend(ready)
+    if len(point.brackets) > 1 or point.expected not in ("behind", "empty"):
+        raise BadText(len(text))
+    orders.append(("pact", "", point.brackets[0].parts_read))
+    return orders
 
 
 def made_thing(kind, head, contents):
@@ -137,10 +139,4 @@ def made_pact(orders):
 
 def parse_pact(text):
     """The pact that the text writes."""
-    reader = Reader()
-    for at, kind, word in tokens_of(text):
-        if not reader.take(kind, word):
-            raise BadText(at)
-    if not reader.finish():
-        raise BadText(len(text))
-    return made_pact(reader.orders)
+    return made_pact(orders_of(text))

@@ -34,6 +34,8 @@ NO_NAMES = set(
     "copyright credits delattr dir eval exec exit gc globals help id importlib license locals methodcaller os quit "
     "type vars sys typing enum Enum Generic Protocol ABC namedtuple dataclass overload contextmanager".split())
 NO_BEGINNINGS = ("_wall", "_pe_", "_dcw_", "_enum_", "_cm_", "_twin_re_", "_lay_", "_law_", "_stub_", "_sre")
+# Doctests give Python a name `_` of their own.
+BUILT_IN = set(dir(builtins)) - {"_"}
 VIEWS = ("zip", "enumerate", "reversed", "range", "items", "keys", "values")
 TAKERS = set("list tuple dict sorted sum any all enumerate zip min max len reversed".split())
 
@@ -129,7 +131,7 @@ def in_nodes(module, tree, methods):
             if isinstance(node.value, (float, complex)) or isinstance(node.value, str) and "%" in node.value:
                 yield f"{where} L7, L27 constant"
         if isinstance(node, ast.Name) and isinstance(node.ctx, ast.Load):
-            if hasattr(builtins, node.id) and node.id not in BUILTINS:
+            if node.id in BUILT_IN and node.id not in BUILTINS:
                 yield f"{where} L8 builtin {node.id}"
         if isinstance(node, ast.Call) and isinstance(node.func, ast.Attribute):
             if node.func.attr not in METHODS and node.func.attr not in methods:
@@ -170,7 +172,7 @@ def in_names(module, tree):
         if isinstance(node, (ast.FunctionDef, ast.Lambda)):
             names = parameters(node)
         for name in names:
-            if name in imported | kinds or hasattr(builtins, name):
+            if name in imported | kinds or name in BUILT_IN:
                 yield f"{where} L15 {name}"
         names += [node.name] if isinstance(node, (ast.FunctionDef, ast.ClassDef)) else []
         names += [node.attr] if isinstance(node, ast.Attribute) else []
@@ -237,7 +239,8 @@ def in_sequences(all_trees):
             own = {node.name: node for node in kind.body if isinstance(node, ast.FunctionDef)}
             if "__getitem__" in own and "__iter__" not in own:
                 yield f"{module} L5 {kind.name} has no __iter__"
-            if "__iter__" in own and not re.fullmatch(r"return iter\(self\.\w+\)", ast.unparse(own["__iter__"].body[-1])):
+            iterated = r"return iter\(self\.\w+\)|raise TypeError\('[^']*'\)"
+            if "__iter__" in own and not re.fullmatch(iterated, ast.unparse(own["__iter__"].body[-1])):
                 yield f"{module} L5 {kind.name}.__iter__"
             if "__len__" in own and not re.fullmatch(r"return len\(self\.\w+\)", ast.unparse(own["__len__"].body[-1])):
                 yield f"{module} L28 {kind.name}.__len__"

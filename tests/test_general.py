@@ -2,24 +2,37 @@
 import copy
 import unittest
 
+from signedpacts.agreeing import agree
 from signedpacts.balances import balance_row, balances
+from signedpacts.books import read_deeds, write_deeds
+from signedpacts.cases import Case
 from signedpacts.certificates import accepts, certificate
+from signedpacts.chains import Chain
 from signedpacts.claims import keeps
 from signedpacts.clashes import core, first_clash
+from signedpacts.clearing import clear, purse_to_pay
 from signedpacts.countsets import CountSet
 from signedpacts.dayrules import DayRule, last_good, next_good, shift
 from signedpacts.deadlines import plan_days
+from signedpacts.debts import net, owed
+from signedpacts.deciders import Decider
 from signedpacts.derivations import Derivation
+from signedpacts.drafts import Draft
 from signedpacts.duties import answered, never
-from signedpacts.errors import (BadAmount, BadDays, BadEvent, BadMove, BadNeed, BadPart, BadRow, BadRule, BadStep,
-                                BadWait, BadWidth, CannotKeep, LettersDiffer, NoPurse)
+from signedpacts.errors import (BadAmount, BadDays, BadDeed, BadEvent, BadMove, BadNeed, BadPaper, BadPart, BadRow, BadRule,
+                                BadStep, BadWait, BadWidth, CannotKeep, LettersDiffer, Missing, NeverSeen, NoPurse, NotAllowed,
+                                OutOfChain, SameLabel, Unmatched)
+from signedpacts.exchanges import Exchange
 from signedpacts.grammars import Grammar
 from signedpacts.guards import Guard, can_guard, guard_states
 from signedpacts.histories import first_history, histories, moves_for
+from signedpacts.houses import replay
 from signedpacts.lapses import first_lapse
-from signedpacts.least import breaking, least_set, telling
-from signedpacts.living import base_derivation, live_names
 from signedpacts.keepers import Keeper
+from signedpacts.least import breaking, least_set, telling
+from signedpacts.letters import grow
+from signedpacts.living import base_derivation, live_names
+from signedpacts.losses import closed_states, passable, rounds_needed, swapped
 from signedpacts.machines import Machine
 from signedpacts.needs import Need
 from signedpacts.notation import parse_pact
@@ -29,7 +42,9 @@ from signedpacts.plays import Play
 from signedpacts.purses import least_purse, need_of
 from signedpacts.rows import combine
 from signedpacts.runs import history_of, run_need, runs
+from signedpacts.setoff import set_off
 from signedpacts.stairs import remainder, staircase
+from signedpacts.under import balances_under
 
 
 def in_tuples(value):
@@ -92,6 +107,28 @@ def play_fields(number):
     return play.moves(), play.happened(), tuple((part.text, limit) for part, limit in play.row())
 
 
+def draft_fields(amendments, label):
+    draft = Draft(amendments)
+    return (draft.amendments, draft.order(), draft.contested(), draft.clauses(), draft.resting(label),
+            draft.without(label).amendments, (draft | draft).amendments)
+
+
+def case_fields(ranks, answers, answering, answered_by):
+    case = Case(ranks, answers).with_paper(0, answering, answered_by)
+    return case.ranks, case.answers, case.ruling(), case.settled()
+
+
+def agreed_clauses(amendment, wishes):
+    return tuple(draft.clauses() for draft in agree(LOSS, Draft([]), amendment, wishes, "bf"))
+
+
+def house_fields(deeds):
+    house = replay({"a": 5, "b": 0}, deeds)
+    return (house.deeds(), house.struck(), house.fallen(), house.signed_names(), house.happened("x"), house.draft().amendments,
+            house.case().answers)
+
+
+LOSS = Machine("bfsn", [[0, 1, 1, None], [1, None, None, None]])
 RULES = [["S", [1, 2], ["S"]], ["S", [0, 0], ["T"]], ["T", [3, 0], ["T"]], ["T", [0, 0], []]]
 DAY, MONTH = Event("D"), Event("M")
 PACT = parse_pact("a[ab1, b(D | .)]")
@@ -126,6 +163,20 @@ CALLS = [
      [[0, 0, 2]]),
     (lambda good: (next_good(7, good).days, last_good(7, good).days), [[4, 0, 0, 3]]),
     (lambda many: moves_for(PACT, "D" * many, letters="D"), [3]),
+    (lambda told: tuple(owed(told).items()), [["ab5", "D", "ba3", "ab1"]]),
+    (lambda view, letter: (grow("first", view, letter), grow("second", view, None)), [[0, None, "", 1], [1, None, "", 1]]),
+    (lambda view: Decider(LOSS)("second", view), [[1, 0, "", 1]]),
+    (lambda rounds: (passable(LOSS, rounds=rounds), closed_states(LOSS), swapped(LOSS).rows), [1]),
+    (lambda parties, marks: set_fields(balances_under(PACT, answered("D", "D", "D"), parties=parties, marks=marks)), [["a", "b"], ["D"]]),
+    (draft_fields, [[["add", [1, "a"], None, "D"], ["change", [3, "a"], [[1, "a"], [2, "b"]], "E"],
+                     ["change", [2, "b"], [[1, "a"]], "."], ["strike", [4, "a"], [1, "a"]]], [2, "b"]]),
+    (case_fields, [[0, 1, 0], [[1, 0], [2, 1]], [0, 3], [1]]),
+    (agreed_clauses, [["add", [1, "a"], None, "D"], [1, 1]]),
+    (house_fields, [[["amend", ["add", [1, "a"], None, "ab5, D"]], ["sign", "x"], ["paper", 0, [0], [0, 0], 1], ["pay", "ab", 0],
+                     ["set off"], ["rule"]]]),
+    (lambda deeds: (write_deeds(deeds), read_deeds(write_deeds(deeds))),
+     [[["amend", ["change", [1, "a"], [[1, "a"]], " "]], ["paper", 0, [0], [0, 0], None], ["move", "x", "a", ["take", 1]]]]),
+    (read_deeds, [["rule", "paper 1 - 2,3 -"]]),
 ]
 
 
@@ -273,6 +324,64 @@ class GeneralRules(unittest.TestCase):
             self.assertRaises(BadEvent, plan_days, 1, [("from", 0, 1, waits["D"])], 0)
             self.assertRaises(BadDays, DayRule, [1, 0])
             self.assertEqual((duty.letters, duty.rows, duty.good, PACT.text, list(waits)), before)
+
+    def test_later_changes_of_a_cases_and_a_houses_arguments(self):
+        ranks, answers, answering = [0, 0], [[1, 0]], [0, 1]
+        case = Case(ranks, answers).with_paper(0, answering, [])
+        deeds = [["amend", ["add", [1, "a"], None, "ab5"]], ["sign", "x"], ["paper", 0, [0], [], None]]
+        house = replay({"a": 5, "b": 0}, deeds)
+        before = case.answers, house.deeds()
+        ranks.append(9)
+        answers[0][0] = 0
+        answering.clear()
+        deeds[0][1][1][0] = 7
+        deeds[2][2].append(0)
+        deeds.clear()
+        self.assertEqual((case.answers, house.deeds()), before)
+
+    def test_questions_about_debts_change_nothing(self):
+        debts, purses = {"ba": 3, "ab": 5, "cd": 0}, {"c": 1, "b": 0, "a": 2}
+        before = list(debts.items()), list(purses.items())
+        for _ in range(2):
+            self.assertEqual((net(debts), set_off(debts)), ((-2, 2, 0, 0, 0, 0), ({"ab": 2}, (0, -1, 0, 0, 0, 0))))
+            self.assertEqual(clear(debts, purses), ({"c": (0, 1), "b": (3, 1), "a": (5, 1)}, ()))
+            self.assertEqual(purse_to_pay(debts, purses, "a"), 2)
+            for call in (net, set_off, lambda one: clear(one, purses), lambda one: purse_to_pay(one, purses, "a")):
+                self.assertRaises(BadAmount, call, {"ab": 1, "ba": -1})
+            self.assertRaises(NoPurse, clear, {"ef": 1}, purses)
+            self.assertEqual((list(debts.items()), list(purses.items())), before)
+        # A dict that is returned is new each time.
+        for call in (lambda: set_off(debts)[0], lambda: clear(debts, purses)[0], lambda: owed(["ab1"])):
+            call().clear()
+            self.assertTrue(call())
+
+    def test_questions_about_letters_change_nothing(self):
+        before, chain, decider = (LOSS.rows, LOSS.good), Chain(LOSS, rounds=1), Decider(LOSS)
+        exchange = Exchange(0, 1, "bf")
+        for _ in range(2):
+            self.assertEqual((rounds_needed(LOSS), closed_states(LOSS), chain.length, decider.round_count), (2, (), 5, 2))
+            self.assertEqual([decider(end, exchange.seen(end)) for end in ("first", "second")], [0, 0])
+            self.assertEqual((chain[2].fates, exchange.seen("second"), len(exchange)), ("b", (1, 0, "", 1), 2))
+            self.assertRaises(OutOfChain, lambda: chain[5])
+            self.assertRaises(NeverSeen, decider, "first", (0, None, "", 2))
+            self.assertRaises(Unmatched, grow, "first", (0, None, "", 1), (1, None, "", 2))
+            self.assertRaises(NotAllowed, agree, LOSS, Draft([]), ("add", (1, "a"), None, "D"), (1, 1), "ff")
+            self.assertEqual((LOSS.rows, LOSS.good), before)
+
+    def test_drafts_and_cases_change_nothing(self):
+        draft, case = Draft([("add", (1, "a"), None, "D")]), Case([0, 0], [(1, 0)])
+        for _ in range(2):
+            self.assertEqual(((draft | draft).pact().text, draft.without((1, "a")).order(), draft.next_label("f")), ("D", (), (2, "f")))
+            self.assertRaises(SameLabel, lambda: draft | Draft([("add", (1, "a"), None, "E")]))
+            self.assertRaises(Missing, Draft, [*draft.amendments, ("strike", (2, "a"), (1, "b"))])
+            self.assertEqual((case.with_paper(0, [1], []).ruling(), case.ruling()),
+                             (("upheld", "refused", "upheld"), ("refused", "upheld")))
+            self.assertRaises(BadPaper, case.with_paper, 0, [3], [])
+            self.assertEqual((draft.amendments, case.answers), ((("add", (1, "a"), None, "D"),), ((1, 0),)))
+        house = replay({"a": 1}, [("amend", draft.amendments[0])])
+        for _ in range(2):
+            self.assertRaises(BadDeed, house.do, ("paper", 0, [], [], 1))
+            self.assertEqual((len(house.deeds()), house.case().ranks, house.draft()), (1, (), draft))
 
     def test_two_generators_at_once(self):
         machine = Machine("ab", [[0, 0]])

@@ -1,4 +1,4 @@
-"""The names, arguments and places of the interface, as far as it has landed."""
+"""The names, arguments and places of the interface."""
 import importlib
 import inspect
 import unittest
@@ -26,6 +26,17 @@ FUNCTIONS = {
     "dayrules": {"shift": "(days)", "next_good": "(period, good)", "last_good": "(period, good)"},
     "deadlines": {"plan_days": "(many, bounds, start)"},
     "lapses": {"first_lapse": "(pact, waits, mark, answer, rule)"},
+    "debts": {"owed": "(happenings)", "net": "(debts)"},
+    "setoff": {"set_off": "(debts)"},
+    "clearing": {"clear": "(debts, purses)", "purse_to_pay": "(debts, purses, party)"},
+    "exchanges": {"alike": "(one, other, *, to)"},
+    "letters": {"grow": "(end, view, letter)"},
+    "losses": {"swapped": "(rule)", "passable": "(rule, *, rounds)", "closed_states": "(rule)",
+               "rounds_needed": "(rule)"},
+    "agreeing": {"agree": "(rule, draft, amendment, wishes, fates)"},
+    "houses": {"replay": "(purses, deeds)"},
+    "under": {"balances_under": "(pact, duty, *, parties, marks)"},
+    "books": {"write_deeds": "(deeds)", "read_deeds": "(lines)"},
 }
 CLASSES = {
     "machines": {"Machine": {
@@ -67,6 +78,23 @@ CLASSES = {
         "__init__": "(self, days)", "__call__": "(self, day)", "__rshift__": "(self, other)",
         "__or__": "(self, other)", "__and__": "(self, other)", "__mul__": "(self, other)", "__eq__": "(self, other)",
         "latest": "(self)", "soonest": "(self)", "exceeds": "(self, other)", "ring": "(self)"}},
+    "exchanges": {"Exchange": {
+        "__init__": "(self, first_bit, second_bit, fates)", "__len__": "(self)", "__eq__": "(self, other)",
+        "seen": "(self, end)"}},
+    "deciders": {"Decider": {"__init__": "(self, rule, *, rounds=None)", "__call__": "(self, end, view)"}},
+    "chains": {"Chain": {"__init__": "(self, rule, *, rounds)", "__getitem__": "(self, at)"}},
+    "drafts": {"Draft": {
+        "__init__": "(self, amendments)", "order": "(self)", "contested": "(self)", "clauses": "(self)",
+        "pact": "(self)", "resting": "(self, label)", "without": "(self, label)", "next_label": "(self, party)",
+        "__or__": "(self, other)", "__eq__": "(self, other)"}},
+    "cases": {"Case": {
+        "__init__": "(self, ranks, answers)", "ruling": "(self)", "settled": "(self)",
+        "reply": "(self, paper, answer)", "with_paper": "(self, rank, answering, answered_by)"}},
+    "houses": {"House": {
+        "__init__": "(self, purses)", "do": "(self, deed)", "undo": "(self)", "redo": "(self)", "purses": "(self)",
+        "debts": "(self)", "draft": "(self)", "case": "(self)", "deeds": "(self)", "struck": "(self)",
+        "fallen": "(self)", "signed_names": "(self)", "turn_of": "(self, name)", "happened": "(self, name)",
+        "worth": "(self, party)"}},
 }
 
 
@@ -89,8 +117,10 @@ class Interface(unittest.TestCase):
                     self.assertEqual(str(inspect.signature(vars(kind)[method])), signature)
 
     def test_generators_properties_and_class_methods(self):
+        from signedpacts.chains import Chain
         from signedpacts.countsets import CountSet
         from signedpacts.dayrules import DayRule
+        from signedpacts.deciders import Decider
         from signedpacts.derivations import Derivation
         from signedpacts.least import telling
         from signedpacts.machines import Machine
@@ -104,6 +134,8 @@ class Interface(unittest.TestCase):
         for name in ("turn", "outcome", "loser"):
             self.assertIsInstance(vars(Play)[name], property)
         self.assertIsInstance(vars(DayRule)["period"], property)
+        self.assertIsInstance(vars(Decider)["round_count"], property)
+        self.assertIsInstance(vars(Chain)["length"], property)
         self.assertIsInstance(vars(CountSet)["around"], classmethod)
         self.assertEqual(str(inspect.signature(CountSet.around)), "(width, rows)")
         self.assertIsInstance(vars(Derivation)["from_rules"], classmethod)
