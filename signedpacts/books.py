@@ -1,5 +1,6 @@
 """Written books: deeds as lines of text, and back ([94])."""
 from signedpacts.debts import is_pair
+from signedpacts.drafts import rested_on
 from signedpacts.errors import BadLine
 from signedpacts.parties import PARTIES
 from signedpacts.words import is_number
@@ -21,12 +22,9 @@ def list_text(words):
 
 def amendment_line(amendment):
     """The line of an amendment."""
-    word, label = amendment[0], amendment[1]
-    if word == "strike":
-        return f"amend strike {label_text(label)} {label_text(amendment[2])}"
-    named = amendment[2] if word == "change" else [] if amendment[2] is None else [amendment[2]]
-    labels = list_text([label_text(one) for one in named])
-    return f"amend {word} {label_text(label)} {labels} {amendment[3]}"
+    labels = list_text([label_text(one) for one in rested_on(amendment)])
+    line = f"amend {amendment[0]} {label_text(amendment[1])} {labels}"
+    return line if amendment[0] == "strike" else f"{line} {amendment[3]}"
 
 
 def deed_line(deed):
@@ -83,7 +81,7 @@ def contested_in(word):
 def list_in(word, reader):
     """Reads a list whose members the reader reads."""
     found = [] if word == "-" else [reader(one) for one in word.split(",")]
-    return None if None in found else (tuple([one for (one,) in found]),)
+    return None if None in found else (tuple([told[0] for told in found]),)
 
 
 def versions_in(word):
@@ -166,8 +164,8 @@ def read_deeds(lines):
     """The deeds that the lines write."""
     deeds = []
     for number, line in enumerate(lines):
-        # The text of an amendment is all that stands behind the fourth space.
-        words = line.split(" ", 4) if line.startswith("amend") else line.split(" ")
+        # The text of an amendment is all that stands behind the fourth space. No other word may have a space in it.
+        words = line.split(" ", 4)
         found = [told for told in [told_by(words, form) for form in FORMS] if told is not None]
         if not found:
             raise BadLine(number)

@@ -40,8 +40,9 @@ def without_entry(row, pivot_row, at):
 def solved(rows):
     """Where just one entry of each row is left beside its last one, so that this entry times an unknown is the last.
 
-    The unknowns are the parts that parties pay of their debts. What a party owes is at least what all others are to
-    get from it, so each row has a positive entry at its own place when its turn comes.
+    The unknowns are the parts that failing parties pay of their debts. When its turn comes, each row has a positive
+    entry at its own place: of what a party owes, the others get no more than all, and parties that owe each other
+    alone never fail all together.
     """
     done = [list(row) for row in rows]
     for at in range(len(rows)):

@@ -46,7 +46,7 @@ def clauses_of_versions(amendments):
         named = rested_on(amendment)
         clauses = [found.get(one) for one in named]
         if amendment[0] == "change":
-            fits = len(clauses) > 0 and clauses[0] is not None and all([clause == clauses[0] for clause in clauses])
+            fits = None not in clauses and len(set(clauses)) == 1
         else:
             fits = all([clause == one for clause, one in zip(clauses, named)])
         if not fits:

@@ -10,10 +10,9 @@ def last_arrival(view):
 
 
 def fates_from(first, second):
-    """The only fates that can show the two views to the two ends; they are the same length if any do.
+    """The only fates that can show the two views to the two ends, if any do.
 
-    An end knows all rounds before its last letter. In a later round it got none, and neither did the other end if
-    its own last letter came earlier.
+    An end knows the fates of all rounds before its last letter. Behind the last letter of both ends, none arrived.
     """
     mine = last_arrival(first)
     its = last_arrival(second)

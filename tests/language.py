@@ -16,6 +16,7 @@ LIBRARY = {
     "itertools": "chain accumulate pairwise islice zip_longest",
     "collections": "defaultdict",
 }
+NAMES_OF_LIBRARY = set(" ".join(LIBRARY.values()).split())
 BUILTINS = set(
     "len range enumerate zip min max sum abs sorted reversed int str bool list tuple dict set isinstance ord repr any "
     "all divmod iter next map Exception ValueError TypeError KeyError IndexError LookupError ZeroDivisionError "
@@ -146,6 +147,9 @@ def in_nodes(module, tree, methods):
                 yield f"{where} L27 power"
         if isinstance(node, ast.AugAssign) and (isinstance(node.op, ast.Pow) or not isinstance(node.value, ast.Constant)):
             yield f"{where} L5 growing assignment"
+        if isinstance(node, ast.Call) and any(isinstance(one, ast.Starred) for one in node.args):
+            if called(node) in (BUILTINS | NAMES_OF_LIBRARY) - {"max", "min", "zip"}:
+                yield f"{where} L7 star"
         if called(node) == "reversed" and called(node.args[0]) not in ("list", "tuple", "sorted", "range"):
             yield f"{where} L5 reversed"
 

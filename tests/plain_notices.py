@@ -13,6 +13,11 @@ NAMED_RULES = {
     "none": [[0, None, None, None]], "nothing": [[None, None, None, 0]], "once": [[0, 1, 1, None], [1, None, None, None]],
     "empty": [], "dead": [[1, 1, 1, 1], [None, None, None, None]], "late": [[1, 1, 1, None], [0, None, None, None]],
     "twice": [[0, 1, 1, None], [1, 2, 2, None], [2, None, None, None]],
+    # An end can be tied while the other one is not, and the fate that both letters arrive may be allowed, but not open.
+    "crossed": [[1, 2, None, None], [None, 2, 2, None], [2, None, None, 2]],
+    "turned": [[1, None, 2, None], [None, 2, 2, None], [2, None, None, 2]],
+    # A passage can begin with n, but another one is shorter.
+    "detour": [[2, 2, 2, 1], [1, 1, 1, None], [None, None, None, 2]],
     "deep": [[1, 1, 1, None], [2, 2, 2, None], [3, 3, 3, None], [3, None, None, None]],
 }
 
@@ -27,6 +32,17 @@ def some_rule(chance, most=4):
     gaps = chance.choice([0.1, 0.3, 0.5, 0.7])
     rows = [[None if chance.random() < gaps else chance.randrange(many) for _ in FATES] for _ in range(many)]
     return Machine(FATES, rows, [state for state in range(many) if chance.random() < 0.95])
+
+
+def layered_rule(chance):
+    """A rule under which the fates that are allowed change from round to round."""
+    many = chance.randint(2, 4)
+    rows = []
+    for layer in range(many):
+        allowed_here = [fate for fate in FATES if chance.random() < 0.5] or ["b"]
+        nexts = [min(many - 1, layer + 1), chance.randint(layer, many - 1)]
+        rows.append([chance.choice(nexts) if fate in allowed_here else None for fate in FATES])
+    return Machine(FATES, rows)
 
 
 def reads_all(rule, text):

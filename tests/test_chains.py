@@ -8,7 +8,7 @@ from signedpacts.errors import BadCount, CannotDecide, NoChain, OutOfChain
 from signedpacts.exchanges import Exchange
 from signedpacts.losses import passable
 from signedpacts.machines import Machine
-from tests.plain_notices import ENDS, FATES, allowed, named_rule, plain_view, shortest_chain, some_rule
+from tests.plain_notices import ENDS, FATES, NAMED_RULES, allowed, layered_rule, named_rule, plain_view, shortest_chain, some_rule
 from tests.raising import Raising
 
 
@@ -54,11 +54,17 @@ class Chains(Raising):
         chain = Chain(named_rule("all"), rounds=2)
         self.assertEqual([told(chain[at]) for at in range(chain.length)], [(0, 0, "nn"), (0, 1, "nn"), (1, 1, "nn")])
 
+    def test_the_shorter_one_of_two_passages(self):
+        chains = [Chain(named_rule("detour"), rounds=rounds) for rounds in range(5)]
+        self.assertEqual([chain.length for chain in chains], [3, 3, 5, 5, 5])
+        self.assertEqual([told(chains[3][at]) for at in range(5)],
+                         [(0, 0, "snn"), (0, 1, "snn"), (0, 1, "bnn"), (0, 1, "fnn"), (1, 1, "fnn")])
+
     def test_random_rules(self):
         chance = random.Random(121)
         seen = {}
-        for _ in range(250):
-            rule = some_rule(chance, chance.choice([2, 4, 6]))
+        some = [chance.choice([some_rule(chance, chance.choice([2, 4, 6])), layered_rule(chance)]) for _ in range(300)]
+        for rule in [*map(named_rule, NAMED_RULES), *some]:
             for rounds in range(5):
                 shortest = shortest_chain(rule, rounds)
                 if shortest is None:

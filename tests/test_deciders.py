@@ -8,7 +8,7 @@ from signedpacts.exchanges import Exchange
 from signedpacts.losses import rounds_needed
 from signedpacts.machines import Machine
 from tests.plain import all_texts
-from tests.plain_notices import ENDS, FATES, allowed, named_rule, plain_view, some_rule, tied_views
+from tests.plain_notices import ENDS, FATES, allowed, layered_rule, named_rule, plain_view, some_rule, tied_views
 from tests.raising import Raising
 
 BITS = [(0, 0), (0, 1), (1, 0), (1, 1)]
@@ -67,8 +67,9 @@ class Deciders(Raising):
     def test_all_decisions_of_few_rounds(self):
         chance = random.Random(111)
         seen, checked = {}, 0
-        rules = [named_rule(name) for name in ("first", "second", "none", "once", "twice", "late", "deep", "empty")]
-        for rule in [*rules, *(some_rule(chance, chance.choice([2, 4, 6])) for _ in range(250))]:
+        rules = [named_rule(name) for name in ("first", "second", "none", "once", "twice", "late", "deep", "crossed", "turned")]
+        some = [chance.choice([some_rule(chance, 4), layered_rule(chance), layered_rule(chance)]) for _ in range(500)]
+        for rule in [*rules, *some]:
             needed = rounds_needed(rule)
             for rounds in range(5 if needed is None else needed, 5):
                 if len(rule.unending().rows) and (rounds < 4 or chance.random() < 0.2):
@@ -81,7 +82,7 @@ class Deciders(Raising):
         seen = {True: 0, False: 0}
         every = [(own, other, known, silent) for own in (0, 1) for other in (0, 1, None) for known in all_texts(FATES, 3)
                  for silent in range(5)]
-        for name in ("first", "once", "twice", "late", "none", "dead", "empty"):
+        for name in ("first", "once", "twice", "late", "none", "crossed", "turned", "dead", "empty"):
             rule = named_rule(name)
             for rounds in range(rounds_needed(rule), 4):
                 decider, shown = Decider(rule, rounds=rounds), {end: set() for end in ENDS}

@@ -284,6 +284,18 @@ class Rulings(HouseTest):
         house = replay(purses, [*deeds, ("rule",), ("paper", 0, [], [], 1)])
         self.assertEqual((house.struck(), house.case().ruling()), ((), ("upheld",)))
 
+    def test_papers_and_earlier_rulings_do_nothing(self):
+        house = house_with({"a": 0, "b": 0}, clause(1, "ab5, ba3"), ("sign", "x"), ("paper", 0, [], [], None), ("rule",),
+                           ("paper", 0, [0], [0], None), ("rule",), ("rule",))
+        self.assertEqual((house.debts(), house.fallen(), house.struck()), ({"ab": 5, "ba": 3}, (), ()))
+        self.assertEqual((len(house.case().ranks), len(house.deeds())), (2, 7))
+        # What was set off before a ruling is set off again, unless it is struck.
+        house = house_with({"a": 0, "b": 0}, clause(1, "ab5, ba3"), ("sign", "x"), ("set off",), ("rule",))
+        self.assertEqual(house.debts(), {"ab": 2})
+        house.do(("paper", 0, [], [], 2))
+        house.do(("rule",))
+        self.assertEqual((house.debts(), house.struck()), ({"ab": 5, "ba": 3}, (2,)))
+
     def test_deeds_that_were_left_out_can_be_contested(self):
         house = house_with({"a": 5, "b": 0}, clause(1, "ab2"), ("sign", "x"), ("paper", 0, [], [], 0), ("rule",),
                            ("paper", 0, [], [], 0), ("paper", 0, [], [], 1), ("rule",))

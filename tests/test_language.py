@@ -19,9 +19,10 @@ class Language(unittest.TestCase):
             return list(language.in_operators({"m": ast.parse(text)}))
 
         for text in ("x = 1 / 2", "x = 1.5", "x = any(y for y in z)", "x = eval(y)", "x.encode()", "x = a is b",
-                     "x = zip(a, b)", "x = '50%'", "x = 2 ** n", "x = 2 ** 65", "x += y", "x = list(reversed(y))"):
+                     "x = zip(a, b)", "x = '50%'", "x = 2 ** n", "x = 2 ** 65", "x += y", "x = list(reversed(y))",
+                     "x = lcm(*y)", "x = sum(*y)"):
             self.assertTrue(nodes(text), text)
-        self.assertEqual(nodes("x = 10 ** 60 + len(list(reversed(list(y))))"), [])
+        self.assertEqual(nodes("x = 10 ** 60 + len(list(reversed(list(y)))) + max(*y)"), [])
         for text in ("min = 3", "def f(hash): pass", "def f(): self.__x = 1", "from m import a\na = 1", "_wall = 1",
                      "def f():\n" + "    pass\n" * 40):
             self.assertTrue(names(text), text)
@@ -51,6 +52,9 @@ class Language(unittest.TestCase):
         for text in ("class C:\n def __getitem__(self, at):\n  return 1\n",
                      "class C:\n def __iter__(self):\n  yield 1\n", "class C:\n def __len__(self):\n  return 1\n"):
             self.assertTrue(kinds(language.in_sequences, text))
+        item = "class C:\n def __getitem__(self, at):\n  return 1\n def __iter__(self):\n  "
+        self.assertEqual(kinds(language.in_sequences, item + "raise TypeError('no list')"), [])
+        self.assertTrue(kinds(language.in_sequences, item + "raise ValueError('no list')"))
 
         def loops(text):
             return list(language.in_loops("m", ast.parse("def f(xs, self, c):\n " + text.replace("\n", "\n "))))

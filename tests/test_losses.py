@@ -4,7 +4,7 @@ import unittest
 from signedpacts.errors import BadCount
 from signedpacts.losses import closed_states, passable, rounds_needed, swapped
 from signedpacts.machines import Machine
-from tests.plain_notices import FATES, allowed, named_rule, shortest_chain, some_rule
+from tests.plain_notices import FATES, allowed, layered_rule, named_rule, shortest_chain, some_rule
 from tests.raising import Raising
 
 # A rule that only counts: after many rounds every letter arrives.
@@ -21,7 +21,7 @@ def plain_passable(rows, rounds):
 
 def some_rules(seed, many):
     chance = random.Random(seed)
-    return [some_rule(chance, chance.choice([2, 4, 8, 12])) for _ in range(many)]
+    return [chance.choice([some_rule(chance, chance.choice([2, 4, 8, 12])), layered_rule(chance)]) for _ in range(many)]
 
 
 class Swapped(Raising):
