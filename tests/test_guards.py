@@ -184,6 +184,14 @@ class Players(GuardTest):
         play.move(("take", 1))
         self.assertEqual(Guard("a", once).move(play), ("take", 0))
 
+    def test_marks_that_are_not_letters_do_not_count(self):
+        play = play_of("F, b(D, F | E), a(D | E), A")
+        play.move(("take", 0))
+        self.assertEqual(Guard("a", at_most("DE", "D", 1)).move(play), ("take", 1))
+        self.assertEqual(Guard("a", at_most("DE", "D", 2)).move(play), ("take", 0))
+        self.assertEqual(Spoiler("b", at_most("ED", "D", 1)).move(play), ("take", 0))
+        self.raises(CannotKeep, {}, Guard("a", NO_D).move, play)
+
     def test_endless_rounds(self):
         self.raises(CannotKeep, {}, Spoiler("a", NOTHING).move, play_of("D, [D]"))
         play = play_of("[a(D | E)], D")
